@@ -1,0 +1,1 @@
+"""Wanehold: stores that forget."""
