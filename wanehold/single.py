@@ -12,13 +12,13 @@ MOST_TURNS = 200
 def waned(wane, strength, since):
     """Tell what one turn makes of a strength."""
     refuse_wrong([is_wane(wane), is_level(wane, strength), is_moment(since)])
-    return _behind_turn(wane, strength, since)
+    return behind_turn(wane, strength, since)
 
 
 def lifted(wane, strength):
     """Tell what one asking makes of a strength."""
     refuse_wrong([is_wane(wane), is_level(wane, strength)])
-    return _behind_asking(wane, strength)
+    return behind_asking(wane, strength)
 
 
 def along(wane, strength, row, *, since=0):
@@ -26,8 +26,8 @@ def along(wane, strength, row, *, since=0):
     refuse_wrong([is_wane(wane), is_level(wane, strength), is_row(row), is_moment(since)])
     states = [(strength, since)]
     for sign in row:
-        strength = _next_strength(wane, strength, since, sign)
-        since = _next_since(wane, since, sign)
+        strength = next_strength(wane, strength, since, sign)
+        since = next_since(wane, since, sign)
         states.append((strength, since))
     return states
 
@@ -36,7 +36,7 @@ def since_behind(wane, row, *, since=0):
     """Tell the since behind a row."""
     refuse_wrong([is_wane(wane), is_row(row), is_moment(since)])
     for sign in row:
-        since = _next_since(wane, since, sign)
+        since = next_since(wane, since, sign)
     return since
 
 
@@ -49,24 +49,28 @@ def row_of(plans, begin, turns):
     return row
 
 
-def _next_strength(wane, strength, since, sign):
+def next_strength(wane, strength, since, sign):
+    """Tell the strength behind a sign, by a since of any size."""
     if sign == TURN:
-        return _behind_turn(wane, strength, since)
-    return _behind_asking(wane, strength)
+        return behind_turn(wane, strength, since)
+    return behind_asking(wane, strength)
 
 
-def _next_since(wane, since, sign):
+def next_since(wane, since, sign):
+    """Tell the since behind a sign, by a since of any size."""
     if sign == TURN:
         return since + 1
     return 0 if wane.is_anew() else since
 
 
-def _behind_turn(wane, strength, since):
+def behind_turn(wane, strength, since):
+    """Tell the strength behind a turn, by a since of any size."""
     by, take = wane.step_behind(since)
     return max(0, strength // by - take)
 
 
-def _behind_asking(wane, strength):
+def behind_asking(wane, strength):
+    """Tell the strength behind an asking."""
     # What is gone stays gone, however much an asking lifts.
     if strength == 0:
         return 0

@@ -23,6 +23,7 @@ class Wane:
         ])
         self._head = tuple(head)
         self._tail = tuple(tail)
+        self._steps = self._head + self._tail
         self._cap = cap
         self._lift = lift
         self._anew = anew
@@ -68,7 +69,7 @@ class Wane:
 
     def step_behind(self, since):
         """Tell the next step behind so many, which may be more than may be handed in."""
-        return (self._head + self._tail)[self.phase_behind(since)]
+        return self._steps[self.phase_behind(since)]
 
     def phase_behind(self, since):
         """Tell the phase of a since, which may be more than may be handed in."""
