@@ -62,6 +62,18 @@ def some_deed(chance):
     return word, name
 
 
+def row_of_deed(name, word, *given):
+    """The row that tells a desk a deed to the store of this name."""
+    if word == "put":
+        thing, sort, wane, strength = given
+        return f"put {name} {thing} {sort} {strength} {wane.text()}"
+    if word == "hire":
+        return f"hire {name} {given[0]} {' '.join(map(str, given[1]))}"
+    if word == "pass_on":
+        return f"pass {name} {given[0]}"
+    return f"{word} {name} {'none' if given[0] is None else given[0]}"
+
+
 def refused(slow, word, *given):
     """The name of the refusal that the document tells, None where there is none."""
     there = given[0] in slow.things

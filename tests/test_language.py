@@ -1,6 +1,7 @@
 """That the package keeps those rules of the language that a look at its files can tell."""
 
 import ast
+import builtins
 import pathlib
 import re
 import unittest
@@ -11,6 +12,13 @@ BUILTINS = (
     "len range enumerate zip min max sum abs sorted reversed int str bool list tuple dict set isinstance ord repr any "
     "all divmod ValueError"
 ).split()
+METHODS = (
+    "append clear copy count endswith extend find get index insert isalnum isalpha isdigit islower isspace isupper items "
+    "join keys ljust lower lstrip partition pop remove replace reverse rfind rjust rpartition rsplit rstrip setdefault "
+    "split splitlines startswith strip update upper values zfill bit_length isascii isdecimal"
+).split()
+# Functions of a table, by the names to which they are assigned first.
+CALLED = ("read", "answer")
 BARRED = (
     "typing enum Enum Protocol ABC namedtuple dataclass overload contextmanager open input eval exec globals locals vars"
 ).split()
@@ -73,6 +81,7 @@ class Statements(unittest.TestCase):
 
     def test_imports_name_the_file_that_defines(self):
         names = {f"wanehold.{path.stem}": bound(tree) for path, tree in trees()}
+        names["math"] = ["gcd"]
         for file, node in nodes((ast.Import, ast.ImportFrom)):
             self.assertIsInstance(node, ast.ImportFrom, file)
             self.assertIn(node.module, names, file)
@@ -100,7 +109,49 @@ class Statements(unittest.TestCase):
         own = [name for _, tree in trees() for name in bound(tree)]
         for file, node in nodes(ast.Call):
             if isinstance(node.func, ast.Name):
-                self.assertIn(node.func.id, [*own, *BUILTINS], (file, node.lineno))
+                self.assertIn(node.func.id, [*own, *BUILTINS, "gcd", *CALLED], (file, node.lineno))
+
+    def test_no_name_is_that_of_a_builtin(self):
+        for file, node in nodes(ast.Name):
+            if isinstance(node.ctx, ast.Store):
+                self.assertFalse(hasattr(builtins, node.id), (file, node.lineno, node.id))
+        for file, node in nodes(ast.arg):
+            self.assertFalse(hasattr(builtins, node.arg), (file, node.lineno, node.arg))
+
+    def test_no_name_is_that_of_an_import_or_a_class(self):
+        for path, tree in trees():
+            imported = [alias.name for node in tree.body if isinstance(node, ast.ImportFrom) for alias in node.names]
+            classes = [node.name for node in tree.body if isinstance(node, ast.ClassDef)]
+            names = [node.id for node in ast.walk(tree) if isinstance(node, ast.Name) and isinstance(node.ctx, ast.Store)]
+            names += [node.arg for node in ast.walk(tree) if isinstance(node, ast.arg)]
+            self.assertEqual([name for name in names if name in [*imported, *classes]], [], path)
+
+    def test_methods_of_builtin_values_are_those_of_the_language(self):
+        own = [node.name for _, node in nodes(ast.FunctionDef)]
+        for file, node in nodes(ast.Call):
+            if isinstance(node.func, ast.Attribute):
+                self.assertIn(node.func.attr, [*own, *METHODS], (file, node.lineno))
+
+    def test_no_method_is_an_attribute(self):
+        methods = [node.name for _, tree in nodes(ast.ClassDef) for node in tree.body if isinstance(node, ast.FunctionDef)]
+        for file, node in nodes(ast.Attribute):
+            if isinstance(node.ctx, ast.Store):
+                self.assertNotIn(node.attr, methods, (file, node.lineno))
+
+    def test_strings(self):
+        for file, node in nodes(ast.Constant):
+            if isinstance(node.value, str):
+                self.assertNotIn("%", node.value, (file, node.lineno))
+
+    def test_no_two_files_import_from_each_other(self):
+        ahead = {}
+        for path, tree in trees():
+            ahead[f"wanehold.{path.stem}"] = [node.module for node in tree.body if isinstance(node, ast.ImportFrom)]
+        while ahead:
+            free = [name for name, others in ahead.items() if not any(other in ahead for other in others)]
+            self.assertTrue(free, ahead)
+            for name in free:
+                del ahead[name]
 
 
 if __name__ == "__main__":

@@ -21,15 +21,13 @@ class Store:
 
     def __init__(self, rooms, *, stirs=None, grain=0, fade=1):
         refuse_wrong([
-            _are_rooms(rooms), stirs is None or _are_stirs(stirs), is_size(grain), is_within(fade, 1, BILLION),
+            are_rooms(rooms), stirs is None or are_stirs(stirs), is_size(grain), is_within(fade, 1, BILLION),
         ])
         self.shelf = Shelf(rooms, [0] * SORTS if stirs is None else stirs, grain, fade)
 
     def put(self, name, sort, wane, strength):
         """Put a thing into the first room."""
-        refuse_wrong([
-            is_name(name), is_sort(sort), is_wane(wane), is_strength(strength) and is_level(wane, strength),
-        ])
+        refuse_wrong(put_fits(name, sort, wane, strength))
         if name in self.shelf.things:
             raise There(name)
         if len(self.shelf.things) >= MOST_THINGS:
@@ -49,7 +47,7 @@ class Store:
 
     def mend(self, mark):
         """Have a mender with this mark, or none."""
-        refuse_wrong([mark is None or is_strength(mark)])
+        refuse_wrong([is_mark(mark)])
         shelf = self.shelf
         shelf.mark = mark
 
@@ -144,10 +142,7 @@ class Store:
 
     def copied(self):
         """Tell a store alike that goes on by itself."""
-        # Its rooms may hold more than may be handed in, so it is made with another one first.
-        other = Store([1])
-        other.shelf = self.shelf.doubled()
-        return other
+        return store_of(self.shelf.doubled())
 
     def _refuse_gone(self, name):
         refuse_wrong([is_name(name)])
@@ -160,9 +155,29 @@ def is_store(thing):
     return isinstance(thing, Store)
 
 
-def _are_rooms(thing):
+def store_of(shelf):
+    """Tell a store that keeps this very shelf."""
+    # The rooms of a shelf may hold more than may be handed in, so the store is made with another one first.
+    store = Store([1])
+    store.shelf = shelf
+    return store
+
+
+def put_fits(name, sort, wane, strength):
+    """List of each thing that a put is told whether it is as told."""
+    return [is_name(name), is_sort(sort), is_wane(wane), is_strength(strength) and is_level(wane, strength)]
+
+
+def is_mark(thing):
+    """Tell whether it is a mender's mark, or None."""
+    return thing is None or is_strength(thing)
+
+
+def are_rooms(thing):
+    """Tell whether it is a list of one to four rooms."""
     return isinstance(thing, list) and 1 <= len(thing) <= MOST_ROOMS and all([is_room(room) for room in thing])
 
 
-def _are_stirs(thing):
+def are_stirs(thing):
+    """Tell whether it is a list of ten shifts."""
     return isinstance(thing, list) and len(thing) == SORTS and all([is_shift(stir) for stir in thing])

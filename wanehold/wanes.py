@@ -2,12 +2,11 @@
 
 from wanehold.checks import refuse_wrong
 from wanehold.errors import NoText, Wrong
+from wanehold.figures import MOST_FIGURES, read_figures
 from wanehold.kinds import MOST_MOMENT, is_moment, is_size, is_step, is_strength, is_within
 
 MOST_HEAD = 24
 TAILS = (1, 2, 3, 4, 6, 8, 12, 24)
-# No number of a wane has more figures, and int() refuses to read texts of thousands of them.
-MOST_FIGURES = 10
 BAR = "|"
 ANEW = "anew"
 # The words behind the steps: cap and lift, each with its number, then anew or on.
@@ -97,7 +96,7 @@ def read_wane(text):
     bar = words.index(BAR)
     head = [_read_step(word) for word in words[:bar]]
     tail = [_read_step(word) for word in words[bar + 1:-LAST_WORDS]]
-    cap, lift = _read_number(words[-4]), _read_number(words[-2])
+    cap, lift = read_figures(words[-4], MOST_FIGURES), read_figures(words[-2], MOST_FIGURES)
     try:
         wane = Wane(head, tail, cap=cap, lift=lift, anew=words[-1] == ANEW)
     except Wrong:
@@ -127,11 +126,4 @@ def _step_word(step):
 
 def _read_step(word):
     by, _, take = word.partition("-")
-    return _read_number(by), _read_number(take)
-
-
-def _read_number(word):
-    """Tell the number in these figures, None where they are none or too many."""
-    if len(word) > MOST_FIGURES or not word.isdecimal():
-        return None
-    return int(word)
+    return read_figures(by, MOST_FIGURES), read_figures(take, MOST_FIGURES)
