@@ -210,6 +210,15 @@ class Answers(Asks):
             self.assertLess(calls_of(desk.say, f"pass s {turns}")[1], 3 * 10 ** 6)
         self.assertEqual(desk.say("now s"), str(2 * 10 ** 20 + 5 + FAR))
 
+    def test_few_steps_however_long_the_story(self):
+        desk = Desk()
+        said(desk, "new s 0 1 50", "copy s t")
+        for _ in range(3000):
+            said(desk, f"put s a 0 9 {WANE}", "take s a")
+        self.assertLess(calls_of(desk.say, f"put s a 0 9 {WANE}")[1], 1000)
+        self.assertEqual(desk.say("story s"), "\n".join(["0 a put 0", "0 a taken 0"] * 3000 + ["0 a put 0"]))
+        self.assertEqual(desk.say("story t"), "none")
+
     def test_defined_in_its_file_with_its_method(self):
         self.assertEqual(Desk.__module__, file.__name__)
         self.assertIn("say", vars(Desk))

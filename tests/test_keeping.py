@@ -253,6 +253,33 @@ class ByHand(Looks):
         self.assertEqual(asked_in(told[2]), 0)
         self.assertGreater(len(game), 1)
 
+    def test_what_moved_on_stays_there(self):
+        # Asking for a moves b on, and b stays there when a has waned.
+        store = filled([10, 5], [("a", 0, losing(cap=9, lift=4), 5), ("b", 0, still(cap=5), 5)])
+        told, game = self.look_at(store, ["a", "b"])
+        self.assertEqual(4 * asked_in(told[2]), len(told[2]))
+        states = [row for row in game if row[1][1:3] == (1, 5)]
+        self.assertEqual(sorted(row[0][2] for row in states), list(range(1, 10)))
+        # A last room that holds less lets it go.
+        store = filled([10, 4], [("a", 0, losing(cap=9, lift=4), 5), ("b", 0, still(cap=5), 5)])
+        self.assertEqual(self.look_at(store, ["b"])[0][0], "kept")
+        self.assertNotEqual(self.look_at(store, ["a", "b"])[0], told)
+
+    def test_from_room_to_room(self):
+        chance = random.Random(60)
+        moved = 0
+        while moved < 15:
+            store = Store([chance.randint(4, 9) for _ in range(chance.choice([2, 3]))])
+            for name in "ab":
+                wane = losing(chance.randint(3, 6), chance.randint(1, 4), chance.random() < 0.5, chance.choice([0, 1, 1]))
+                store.put(name, 0, wane, chance.randint(2, wane.cap()))
+            try:
+                _, game = self.look_at(store, store.there()[:chance.choice([0, 1, 2])])
+            except TooMany:
+                continue
+            rooms = {tuple(row[1] for row in state) for state in game if len(state) == 2}
+            moved += len(rooms) > 2
+
     def test_others_may_go_and_may_be_asked_for(self):
         # b alone lifts a, by its stir, as a has no lift of its own.
         things = [("a", 0, losing(cap=5, lift=0), 3), ("b", 0, losing(cap=5, lift=2), 3)]

@@ -260,6 +260,59 @@ class NoTexts(Reads):
         self.read_or_refused(body.replace(" ", " 0"))
         self.read_or_refused(body.replace("1", "9" * 5000))
 
+    def test_marked_as_a_text_is_but_no_store_can_be_so(self):
+        store = whole_store()
+        store.put("e", 1, Wane([], [(1, 1)], cap=30, lift=0), 10)
+        store.ask("e")
+        store.pass_on(15)
+        body = write_store(store).rpartition("\n")[0]
+        rows = body.split("\n")
+        first, stirs = rows[0].split(), rows[2]
+        thing = next(row for row in rows if row.startswith("thing b"))
+        trace = next(row for row in rows if row.startswith("trace"))
+        askers = [row for row in rows if row.startswith("asker")]
+        story = next(row for row in rows if row.startswith("story"))
+        words = thing.split()
+        for old, new in (
+            (rows[0], " ".join(first[:-1])), (rows[0], " ".join([*first, "1"])),
+            *[(rows[0], " ".join([*first[:at], wrong, *first[at + 1:]])) for at, wrong in (
+                (0, "-1"), (0, "1" * 401), (1, "1000000001"), (2, "0"), (2, "1000000001"), (3, "2"), (4, "0"),
+                (4, "1000000001"), (4, "None"), (4, ""),
+            )],
+            (rows[1], "1000 50 7 1000000000000 5"), (rows[1], "0 50 7 1000000000000"), (rows[1], ""),
+            (rows[1], "1000 50 7 1000000208"), (rows[1], "1000"), (rows[1], "1000 50 7 1000000000000 "),
+            (stirs, stirs + " 0"), (stirs, stirs.replace("-1000000000", "-1000000001")), (stirs, "0"), (stirs, ""),
+            *[(thing, " ".join([*words[:at], wrong, *words[at + 1:]])) for at, wrong in (
+                (0, "things"), (0, ""), (1, "B"), (1, ""), (2, "4"), (2, "-1"), (3, "10"), (4, "0"), (4, "91"),
+                (5, "x"), (6, "x"), (7, "||"), (8, "1"), (10, "x"),
+            )],
+            (thing, " ".join(words[:7])), (thing, " ".join(words[:3])), (thing, "thing"),
+            (trace, trace.replace("trace e", "trace b")), (trace, "trace e 0"), (trace, "trace E 5"), (trace, "trace e"),
+            (trace, trace + " 1"), (askers[0], askers[1]), (askers[0], "asker 0 a 1 2"), (askers[1], "asker 5 b 0 23"),
+            (askers[0], "asker 1 a"), (askers[0], "asker 1 A 1"), (askers[0], "asker 1 a 2 1"), (askers[0], "asker"),
+            (askers[0], "asker 1 a 24"), (story, "story 0 a puts 0"), (story, "story 0 A put 0"),
+            (story, "story 0 a put 4"), (story, "story 46 a put 0"), (story, "story 0 a put"), (story, story + " 0"),
+        ):
+            self.assertIn(old, rows)
+            forged = "\n".join([new if row == old else row for row in rows])
+            with self.subTest(row=old, forged=new):
+                self.refused(forged + "\n" + texts._mark_of(forged))
+        # Nine askers, nine things.
+        rows[0] = "45 4 3 20 40"
+        at = rows.index(askers[1]) + 1
+        more = [f"asker {number} a 1" for number in range(4, 11)]
+        self.read_or_refused("\n".join(rows[:at] + more[:6] + rows[at:]))
+        forged = "\n".join(rows[:at] + more + rows[at:])
+        self.refused(forged + "\n" + texts._mark_of(forged))
+        at = rows.index(thing) + 1
+        more = [thing.replace("thing b", f"thing b{letter}") for letter in "abcdef"]
+        self.read_or_refused("\n".join(rows[:at] + more[:5] + rows[at:]))
+        forged = "\n".join(rows[:at] + more + rows[at:])
+        self.refused(forged + "\n" + texts._mark_of(forged))
+        for at in range(3):
+            few = "\n".join(rows[:at])
+            self.refused(few + "\n" + texts._mark_of(few))
+
     def read_or_refused(self, body):
         text = body + "\n" + texts._mark_of(body)
         try:

@@ -1,7 +1,7 @@
 import random
 import unittest
 
-from deeds import NAMES, done, late_stores, row_of_deed, some_deed, some_stores
+from deeds import NAMES, done, late_stores, row_of_deed, some_deed, some_stores, still
 from slow_store import told_by
 from things import FAR, calls_of
 from wanehold.desk import Desk
@@ -123,6 +123,39 @@ class TheSameDeeds(unittest.TestCase):
             answers.append(tellers.tell("pass_on", 10 ** 20))
             tellers.look()
         self.assertIn(None, answers)
+
+
+class Stories(unittest.TestCase):
+    def test_stories_of_copies_go_on_by_themselves(self):
+        store = Store([100])
+        store.put("a", 0, still(), 5)
+        copy = store.copied()
+        store.take("a")
+        copy.put("b", 0, still(), 5)
+        third = store.copied()
+        store.put("c", 0, still(), 5)
+        third.put("d", 0, still(), 5)
+        begin = [(0, "a", "put", 0)]
+        self.assertEqual(copy.story(), [*begin, (0, "b", "put", 0)])
+        self.assertEqual(store.story(), [*begin, (0, "a", "taken", 0), (0, "c", "put", 0)])
+        self.assertEqual(third.story(), [*begin, (0, "a", "taken", 0), (0, "d", "put", 0)])
+
+    def test_copies_of_copies_by_chance(self):
+        chance = random.Random(146)
+        told = [(Store([10 ** 10]), [])]
+        for _ in range(2000):
+            store, rows = chance.choice(told)
+            if chance.random() < 0.1 and len(told) < 40:
+                told.append((store.copied(), list(rows)))
+                continue
+            name = chance.choice("abc")
+            if name in store.there():
+                store.take(name)
+                rows.append((0, name, "taken", 0))
+            else:
+                store.put(name, 0, still(), 5)
+                rows.append((0, name, "put", 0))
+            self.assertTrue(all(other.story() == wanted for other, wanted in told))
 
 
 class OneAfterTheOther(unittest.TestCase):

@@ -1,6 +1,7 @@
 """The game of keeping some names, one asking a turn: its states, and the ways from each to the next ones."""
 
 from wanehold.errors import TooMany
+from wanehold.story import Story
 
 
 def game_of(shelf, names, most):
@@ -29,7 +30,7 @@ def game_of(shelf, names, most):
 def _without_past(shelf):
     """Tell a shelf alike without what the game doesn't look at, so that it is doubled at little cost."""
     bare = shelf.doubled()
-    bare.rows = []
+    bare.rows = Story()
     bare.traces = {}
     return bare
 

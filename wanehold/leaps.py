@@ -5,6 +5,7 @@ from wanehold.errors import Busy
 from wanehold.kinds import DAY, MOST_MOMENT
 from wanehold.passing import stride
 from wanehold.store import is_store
+from wanehold.story import Story
 
 
 def foreseen(store):
@@ -13,7 +14,7 @@ def foreseen(store):
     if store.mender() is not None:
         raise Busy()
     shelf = store.shelf.doubled()
-    shelf.rows = []
+    shelf.rows = Story()
     before = shelf.doubled()
     while not _rests(shelf):
         before = shelf.doubled()
@@ -21,7 +22,7 @@ def foreseen(store):
     # No leap ends at rest, so rest came within the last day, which was walked.
     while not _rests(before):
         before.turn()
-    return before.moment, before.rows
+    return before.moment, before.rows.listed()
 
 
 def _rests(shelf):

@@ -3,7 +3,7 @@
 from wanehold.checks import refuse_wrong
 from wanehold.effects import row_effect
 from wanehold.errors import NoNumber, NotOne
-from wanehold.kinds import is_moment, is_row, is_strength, is_whole, is_within
+from wanehold.kinds import BILLION, is_moment, is_row, is_strength, is_whole, is_within
 from wanehold.wanes import is_wane
 
 MOST_PARTS = 8
@@ -64,7 +64,13 @@ def _is_part(thing):
         return False
     if not is_within(low, 1, wane.cap()) or not is_within(high, low, wane.cap()):
         return False
-    return seen is None or is_strength(seen) or is_within(seen, 0, 0) or isinstance(seen, str) and seen == THERE
+    return _is_seen(seen)
+
+
+def _is_seen(thing):
+    if isinstance(thing, str):
+        return thing == THERE
+    return thing is None or is_within(thing, 0, BILLION)
 
 
 def _are_strengths(thing, many):

@@ -2,6 +2,7 @@
 
 from wanehold.kinds import hour_of
 from wanehold.single import behind_asking, behind_turn
+from wanehold.story import Story
 
 PUT = "put"
 MOVED = "moved"
@@ -53,7 +54,7 @@ class Shelf:
         self.plans = []
         self.hired = 0
         self.mark = None
-        self.rows = []
+        self.rows = Story()
 
     def doubled(self):
         """Tell a shelf just like this one."""
@@ -64,7 +65,7 @@ class Shelf:
         other.plans = list(self.plans)
         other.hired = self.hired
         other.mark = self.mark
-        other.rows = list(self.rows)
+        other.rows = self.rows.doubled()
         return other
 
     def by_names(self):
@@ -90,7 +91,7 @@ class Shelf:
 
     def add_row(self, thing, word):
         """Write into the story what happened to a thing, with its room."""
-        self.rows.append((self.moment, thing.name, word, thing.room))
+        self.rows.write((self.moment, thing.name, word, thing.room))
 
     def put_in(self, thing):
         """Put a thing into the first room, the stronger for its trace, which is forgotten."""

@@ -138,7 +138,7 @@ class Store:
 
     def story(self):
         """Tell what happened: tuples (moment, name, word, room)."""
-        return list(self.shelf.rows)
+        return self.shelf.rows.listed()
 
     def copied(self):
         """Tell a store alike that goes on by itself."""

@@ -32,7 +32,7 @@ def rows_of(shelf):
             parts.append([TRACE, name, shelf.trace_of(name)])
     for number, name, hours in shelf.plans:
         parts.append([ASKER, number, name, *hours])
-    for row in shelf.rows:
+    for row in shelf.rows.listed():
         parts.append([STORY, *row])
     return [BLANK.join([str(word) for word in row]) for row in parts]
 
@@ -106,7 +106,7 @@ def _read_story(shelf, words):
     _need(len(words) == 4 and is_name(words[1]) and words[2] in WORDS)
     moment, room = _number(words[0]), _number(words[3])
     _need(moment <= shelf.moment and room < len(shelf.limits))
-    shelf.rows.append((moment, words[1], words[2], room))
+    shelf.rows.write((moment, words[1], words[2], room))
 
 
 READERS = {"thing": _read_thing, "trace": _read_trace, "asker": _read_asker, "story": _read_story}
